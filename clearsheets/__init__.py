@@ -1,0 +1,1 @@
+"""Clearsheets: clear sheets laid over one another."""

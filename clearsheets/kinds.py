@@ -1,0 +1,26 @@
+"""What kind of value something is. Each function takes any value."""
+
+from clearsheets.bounds import MAX_HOLDERS
+
+MODES = ("any", "odd")
+
+
+def is_whole(value, low, high):
+    """Return whether value is an integer from low to high."""
+    # Python takes True and False for integers, the document does not.
+    return isinstance(value, int) and not isinstance(value, bool) and low <= value <= high
+
+
+def is_row(value, fewest, most):
+    """Return whether value is a tuple of fewest to most items."""
+    return isinstance(value, tuple) and fewest <= len(value) <= most
+
+
+def is_holders(value):
+    """Return whether value is a number of holders."""
+    return is_whole(value, 1, MAX_HOLDERS)
+
+
+def is_mode(value):
+    """Return whether value is a mode."""
+    return isinstance(value, str) and value in MODES

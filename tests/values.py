@@ -1,0 +1,37 @@
+"""Values that several tests use: the document's examples and values of all kinds."""
+
+from clearsheets.errors import BadRule, ClearError, Full, NoGroup
+
+W = (2, "any", (((), (0, 1)), ((0,), (1,))))
+R = (3, ((0, 1), (0, 2)), ((0,), (1, 2)))
+V = (2, "any", (((0, 1), (0, 1)), ((0,), (0, 1))))
+H = (3, "any", (((), (0, 1), (0, 2), (1, 2)), ((0,), (0, 1, 2), (1,), (2,))))
+
+
+def nested(depth):
+    """Return tuples in one another, that many deep."""
+    value = ()
+    for _ in range(depth - 1):
+        value = (value,)
+    return value
+
+
+def plain_values():
+    """Return new values of all kinds that any value may be, without objects of the package."""
+    return [
+        None, True, False,
+        0, 1, 2, 3, 5, 6, -1, -2, 400, 401, 10 ** 60 - 1, -(10 ** 60 - 1),
+        "", " ", "0", "01", "any", "odd", "way", "abc", "~\n", "x" * 3000,
+        (), (0,), (1, 0), ((),), ((), ()), (None,), (True,), ("any",), nested(12), (0,) * 2000,
+        [], [0], [[]], [0, 1], [()], [2, "any", [[()], [()]]], [0] * 2000,
+        {}, {0: 1}, {"any": ()}, {(): [], (0,): {}}, {0: 0, 1: 1, 2: 2},
+        W, R, V, H, list(W), W[2], W[2][0], (3, "any", 2, ()),
+        {"deep": [({"deeper": [(None, [True])]},)]},
+    ]
+
+
+def any_values():
+    """Return new values of all kinds, objects of the package among them."""
+    held = ClearError("held")
+    objects = [held, BadRule(0, "group"), Full(), NoGroup((0,)), (held,), [held], {"held": held}]
+    return plain_values() + objects
