@@ -4,8 +4,11 @@ import importlib
 import inspect
 import unittest
 
+from clearsheets.drafts import slim, table_of, way_of
+from clearsheets.lights import blind, cut, gains, light, lights, shown, sighted, told, unlike_part
+from clearsheets.rules import broken, contrast, keeps, of_size, opening, rule_error
 from clearsheets.ways import dots, groups, is_group, parts, way_error
-from tests.values import H, V, W, any_values
+from tests.values import H, R, V, W, any_values
 
 FUNCTIONS = {
     "ways": {
@@ -15,7 +18,32 @@ FUNCTIONS = {
         "way_error": ["value"],
         "dots": ["way"],
     },
+    "lights": {
+        "light": ["way", "tone", "group"],
+        "lights": ["way", "tone"],
+        "gains": ["way", "one", "other"],
+        "cut": ["way", "tone", "group"],
+        "told": ["way", "group"],
+        "shown": ["way", "group"],
+        "unlike_part": ["way", "one", "other", "group"],
+        "blind": ["way"],
+        "sighted": ["way"],
+    },
+    "drafts": {
+        "table_of": ["holders", "mode", "wanted"],
+        "way_of": ["holders", "mode", "wanted"],
+        "slim": ["way"],
+    },
+    "rules": {
+        "rule_error": ["value"],
+        "keeps": ["way", "rule"],
+        "broken": ["way", "rule"],
+        "contrast": ["way", "rule"],
+        "of_size": ["holders", "many"],
+        "opening": ["holders", "some"],
+    },
 }
+DEFAULTS = {"gains": {"one": 0, "other": 1}}
 CLASSES = {
     "errors": {
         "BadMode": ["value"],
@@ -46,7 +74,10 @@ class InterfaceTest(unittest.TestCase):
                     item = getattr(module, name)
                     self.assertEqual(item.__module__, "clearsheets." + file)
                     self.assertEqual(item.__name__, name)
-                    self.assertEqual(list(inspect.signature(item).parameters), arguments)
+                    found = inspect.signature(item).parameters
+                    self.assertEqual(list(found), arguments)
+                    defaults = {key: one.default for key, one in found.items() if one.default is not one.empty}
+                    self.assertEqual(defaults, DEFAULTS.get(name, {}))
 
     def test_functions(self):
         self.check(FUNCTIONS)
@@ -58,7 +89,13 @@ class InterfaceTest(unittest.TestCase):
         found = [groups(holders) for holders in range(1, 6)] + [parts(group) for group in groups(5)]
         found += [dots(way) for way in (W, V, H)]
         for value in any_values():
-            found += [way_error(value), is_group(3, value)]
+            found += [way_error(value), is_group(3, value), rule_error(value)]
+        for way in (W, V, H):
+            found += [light(way, 0, (0,)), lights(way, 0), gains(way), cut(way, 0, (0,)), told(way, (0,)),
+                      shown(way, (0,)), unlike_part(way, 0, 1, (0, 1)), blind(way), sighted(way), slim(way),
+                      table_of(way[0], way[1], lights(way, 1)), way_of(way[0], way[1], gains(way))]
+        found += [keeps(W, of_size(2, 2)), broken(V, of_size(2, 2)), contrast(W, of_size(2, 2)), broken(H, R),
+                  of_size(3, 2), opening(3, ((0, 1),))]
         for result in found:
             self.assertTrue(is_returned_kind(result), result)
 
