@@ -5,10 +5,15 @@ from clearsheets.bounds import MAX_HOLDERS
 MODES = ("any", "odd")
 
 
+def is_number(value):
+    """Return whether value is an integer."""
+    # Python takes True and False for integers, the document does not.
+    return isinstance(value, int) and not isinstance(value, bool)
+
+
 def is_whole(value, low, high):
     """Return whether value is an integer from low to high."""
-    # Python takes True and False for integers, the document does not.
-    return isinstance(value, int) and not isinstance(value, bool) and low <= value <= high
+    return is_number(value) and low <= value <= high
 
 
 def is_row(value, fewest, most):

@@ -45,6 +45,12 @@ def _barred_error(shows, hides):
     return None
 
 
+def blinded(rule):
+    """Return the groups that learn nothing where the rule is kept: the parts of its hides, and ()."""
+    holders, _, hides = rule
+    return [group for group in groups(holders) if group == () or is_covered(hides, group)]
+
+
 def broken(way, rule):
     """Return None if the way keeps the rule, otherwise which show or hide it breaks first."""
     holders, shows, hides = rule

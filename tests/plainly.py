@@ -1,6 +1,7 @@
 """The document's words done the plainest way, and values to try them on; nothing here calls the package."""
 
 import random
+from fractions import Fraction
 from itertools import combinations, combinations_with_replacement, product
 
 MODES = ("any", "odd")
@@ -112,3 +113,76 @@ def some_rule(chance, holders):
 def some_rules(holders, each=30):
     chance = random.Random(11)
     return [some_rule(chance, holders) for _ in range(each)]
+
+
+def near_rules(holders):
+    """Return rules that are near one another: one group shown or hidden more or less, or another one."""
+    every = all_groups(holders)
+    found = {(holders, (), ()), (holders, (), ((),)), (holders, tuple(every[1:]), ()), (holders, tuple(every[1:]), ((),)),
+             (holders, (), tuple(every))}
+    for rule in some_rules(holders, 8):
+        _, shows, hides = rule
+        found.add(rule)
+        found.update((holders, tuple(some for some in shows if some != group), hides) for group in shows)
+        found.update((holders, shows, tuple(some for some in hides if some != group)) for group in hides)
+        found.update((holders, shows, tuple(sorted({*hides, group}))) for group in every[:9]
+                     if not any(part_of(show, group) for show in shows))
+    return sorted(found)
+
+
+def plain_dark(mode, dot, group):
+    black = len(set(dot) & set(group))
+    return black % 2 == 1 if mode == "odd" else black > 0
+
+
+def plain_hidden(rule):
+    """Return the groups that are to tell nothing: () and the parts of hides."""
+    return [group for group in all_groups(rule[0]) if not group or any(part_of(group, hide) for hide in rule[2])]
+
+
+def pair(number):
+    """Return the document's fraction for a Fraction."""
+    return (number.numerator, number.denominator)
+
+
+def plain_plan(way):
+    """Return the plan of the way, counted dot by dot."""
+    holders, _, tables = way
+    return tuple(tuple(pair(Fraction(table.count(group), len(table))) for group in all_groups(holders))
+                 for table in tables)
+
+
+def plain_plan_contrast(rule, mode, plan):
+    """Return the plan's contrast as the document tells it, None if it does not keep the rule."""
+    every = all_groups(rule[0])
+    white, black = [{group: Fraction(*some) for group, some in zip(every, shares)} for shares in plan]
+    gained = {group: sum(white[dot] - black[dot] for dot in every if not plain_dark(mode, dot, group))
+              for group in every}
+    if any(gained[group] <= 0 for group in rule[1]) or any(gained[group] != 0 for group in plain_hidden(rule)):
+        return None
+    return pair(min([gained[group] for group in rule[1]], default=Fraction(1)))
+
+
+def plain_bound(rule, mode, value):
+    """Return the bound by the prices as the document tells it, "none" if the tuple of fractions is no prices."""
+    every = all_groups(rule[0])
+    price = {group: Fraction(*some) for group, some in zip(every, value)}
+    free = plain_hidden(rule)
+    for group in every:
+        if group not in free and (price[group] < 0 or group not in rule[1] and price[group] != 0):
+            return "none"
+    for dot in every:
+        if not 0 <= sum(price[group] for group in every if not plain_dark(mode, dot, group)) <= 1:
+            return "none"
+    total = sum(price[group] for group in rule[1])
+    return pair(1 / total) if total else None
+
+
+def some_plan(chance, holders, tones):
+    """Return a plan drawn by chance, with many shares of nothing."""
+    found = []
+    for _ in range(tones):
+        weights = [chance.choice((0, 0, 1, 1, 2, 5)) for _ in all_groups(holders)]
+        weights[chance.randrange(len(weights))] += 1
+        found.append(tuple(pair(Fraction(weight, sum(weights))) for weight in weights))
+    return tuple(found)

@@ -4,8 +4,12 @@ import importlib
 import inspect
 import unittest
 
+from clearsheets.asking import asks, both, left_out, reordered, slimmed
+from clearsheets.best import best, bound_of, evened, plan_contrast, prices, shares, way_by
+from clearsheets.counted import fewest
 from clearsheets.drafts import slim, table_of, way_of
 from clearsheets.lights import blind, cut, gains, light, lights, shown, sighted, told, unlike_part
+from clearsheets.making import beside, exchanged, handed, merged, toned, without
 from clearsheets.rules import broken, contrast, keeps, of_size, opening, rule_error
 from clearsheets.ways import dots, groups, is_group, parts, way_error
 from tests.values import H, R, V, W, any_values
@@ -41,6 +45,33 @@ FUNCTIONS = {
         "contrast": ["way", "rule"],
         "of_size": ["holders", "many"],
         "opening": ["holders", "some"],
+    },
+    "asking": {
+        "both": ["one", "other"],
+        "slimmed": ["rule"],
+        "asks": ["one", "other"],
+        "left_out": ["rule", "holder"],
+        "reordered": ["rule", "order"],
+    },
+    "best": {
+        "way_by": ["holders", "mode", "plan"],
+        "shares": ["way"],
+        "plan_contrast": ["rule", "mode", "plan"],
+        "evened": ["holders", "plan"],
+        "best": ["rule", "mode"],
+        "prices": ["rule", "mode"],
+        "bound_of": ["rule", "mode", "value"],
+    },
+    "counted": {
+        "fewest": ["rule", "mode"],
+    },
+    "making": {
+        "beside": ["one", "other"],
+        "exchanged": ["way", "order"],
+        "toned": ["way", "tones"],
+        "without": ["way", "holder"],
+        "merged": ["way", "lots"],
+        "handed": ["outer", "holder", "inner"],
     },
 }
 DEFAULTS = {"gains": {"one": 0, "other": 1}}
@@ -96,6 +127,11 @@ class InterfaceTest(unittest.TestCase):
                       table_of(way[0], way[1], lights(way, 1)), way_of(way[0], way[1], gains(way))]
         found += [keeps(W, of_size(2, 2)), broken(V, of_size(2, 2)), contrast(W, of_size(2, 2)), broken(H, R),
                   of_size(3, 2), opening(3, ((0, 1),))]
+        found += [both(R, R), slimmed(R), asks(R, R), left_out(R, 0), reordered(R, (2, 0, 1)), best(R, "odd"),
+                  prices(R, "odd"), bound_of(R, "odd", prices(R, "odd")), bound_of(R, "any", ()), fewest(R, "any"),
+                  plan_contrast(R, "any", best(R, "any")[1]), evened(3, best(R, "any")[1]), shares(H),
+                  way_by(3, "any", shares(H)), beside(W, V), exchanged(V, (1, 0)), toned(W, (0, 0)), without(H, 1),
+                  merged(H, ((0, 1), ())), handed(W, 1, V)]
         for result in found:
             self.assertTrue(is_returned_kind(result), result)
 
