@@ -14,7 +14,7 @@ from tests.plainly import (HOLDERS, MODES, TONES, all_groups, all_tables, near_r
                            plain_gains, plain_hidden, plain_plan, plain_plan_contrast, some_plan, some_rule,
                            some_rules, some_table, some_ways)
 from tests.sessions import run_session
-from tests.values import R, V, W, any_values, plain_values
+from tests.values import R, W, any_values, plain_values
 
 SESSION = """
 >>> from clearsheets.best import best, bound_of, evened, plan_contrast, prices, shares, way_by
