@@ -1,7 +1,6 @@
 """Rules made of rules, and what they ask of one another."""
 
-from clearsheets.errors import BadRule
-from clearsheets.rules import rule_error
+from clearsheets.rules import checked_rule
 from clearsheets.ways import groups
 from clearsheets.within import is_covered, outermost
 
@@ -10,12 +9,7 @@ def both(one, other):
     """Return the rule with the shows and the hides of both rules."""
     shows = tuple(sorted(set(one[1] + other[1])))
     hides = tuple(sorted(set(one[2] + other[2])))
-    rule = (one[0], shows, hides)
-    error = rule_error(rule)
-    if error is not None:
-        number, word = error
-        raise BadRule(number, word)
-    return rule
+    return checked_rule((one[0], shows, hides))
 
 
 def slimmed(rule):

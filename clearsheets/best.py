@@ -8,7 +8,7 @@ from clearsheets.kinds import is_row
 from clearsheets.lights import is_dark
 from clearsheets.quotients import common_bottom, fraction, is_fraction, tops
 from clearsheets.rules import blinded
-from clearsheets.simplex import greatest
+from clearsheets.solved import best_plan
 from clearsheets.tallies import table_with, tally
 from clearsheets.ways import dots, groups
 
@@ -74,19 +74,16 @@ def _evened_shares(holders, some):
 def best(rule, mode):
     """Return the greatest contrast of ways that keep the rule, and a plan with it."""
     _refuse_many(rule)
-    bottom, unknowns, weights = _solved(rule, mode)
-    total = sum(unknowns[len(blinded(rule)):])
-    # Both tones weigh as much as the prices of the shows together: the price of () sees to that.
-    spread = [fraction(weight, total) for weight in weights]
-    half = len(spread) // 2
-    return (fraction(bottom, total), (tuple(spread[:half]), tuple(spread[half:])))
+    most, plan, _ = _solved(rule, mode)
+    return (most, plan)
 
 
 def prices(rule, mode):
     """Return prices by which no contrast is greater than the greatest one."""
     _refuse_many(rule)
-    bottom, unknowns, _ = _solved(rule, mode)
-    found = {group: fraction(number, bottom) for group, number in zip(_priced(rule), unknowns)}
+    _, _, priced = _solved(rule, mode)
+    # The groups that have prices: first those for which any fraction may stand, then the shows.
+    found = {group: price for group, price in zip(blinded(rule) + list(rule[1]), priced)}
     return tuple([found.get(group, (0, 1)) for group in groups(rule[0])])
 
 
@@ -96,20 +93,11 @@ def _refuse_many(rule):
         raise TooMany(MAX_SOLVED)
 
 
-def _priced(rule):
-    """Return the groups that have prices: first those for which any fraction may stand, then the shows."""
-    return blinded(rule) + list(rule[1])
-
-
 def _solved(rule, mode):
-    """Return bottom, prices and weights: those of the white dots, then those of the black ones."""
-    priced, hidden = _priced(rule), len(blinded(rule))
-    bright = [[0 if is_dark(mode, dot, group) else 1 for group in priced] for dot in groups(rule[0])]
-    # For each dot the prices add up to 1 at most, and to 0 at least.
-    rows = bright + [[-number for number in row] for row in bright]
-    limits = [1] * len(bright) + [0] * len(bright)
-    worths = [0 if at < hidden else 1 for at in range(len(priced))]
-    return greatest(rows, limits, worths, [worth == 0 for worth in worths])
+    """Return the greatest contrast, a plan with it, and the prices of blinded groups and shows."""
+    alike = [(group, 0, 1) for group in blinded(rule)]
+    lighter = [(group, 0, 1) for group in rule[1]]
+    return best_plan(rule[0], mode, 2, alike, lighter)
 
 
 def bound_of(rule, mode, value):

@@ -26,6 +26,11 @@ def is_holders(value):
     return is_whole(value, 1, MAX_HOLDERS)
 
 
+def is_word(value, words):
+    """Return whether value is one of the words."""
+    return isinstance(value, str) and value in words
+
+
 def is_mode(value):
     """Return whether value is a mode."""
-    return isinstance(value, str) and value in MODES
+    return is_word(value, MODES)

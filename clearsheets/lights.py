@@ -1,5 +1,6 @@
 """What groups of holders see of a way, and what they know of it."""
 
+from clearsheets.lots import in_lots
 from clearsheets.ways import groups, parts
 from clearsheets.within import innermost, outermost
 
@@ -35,20 +36,12 @@ def cut(way, tone, group):
 
 def told(way, group):
     """Return the tones in lots of those that the group does not tell apart."""
-    return _lots([cut(way, tone, group) for tone in range(len(way[2]))])
+    return in_lots([cut(way, tone, group) for tone in range(len(way[2]))])
 
 
 def shown(way, group):
     """Return the tones in lots of those that have the same light for the group."""
-    return _lots([light(way, tone, group) for tone in range(len(way[2]))])
-
-
-def _lots(found):
-    """Return the numbers of the items in lots of equal items."""
-    numbers = {}
-    for number, item in enumerate(found):
-        numbers.setdefault(item, []).append(number)
-    return tuple(sorted([tuple(lot) for lot in numbers.values()]))
+    return in_lots([light(way, tone, group) for tone in range(len(way[2]))])
 
 
 def unlike_part(way, one, other, group):

@@ -3,7 +3,7 @@
 from clearsheets.bounds import MAX_DOTS, MAX_HOLDERS
 from clearsheets.errors import TooMany
 from clearsheets.lights import is_dark
-from clearsheets.ways import dots
+from clearsheets.ways import dots, groups
 
 
 def beside(one, other):
@@ -37,8 +37,9 @@ def without(way, holder):
 
 def merged(way, lots):
     """Return the way with a holder for each of lots, whose sheet is dark where those of the lot are, laid."""
-    _, mode, tables = way
-    return (len(lots), mode, tuple([_table([_laid(mode, dot, lots) for dot in table]) for table in tables]))
+    holders, mode, tables = way
+    laid = {dot: _laid(mode, dot, lots) for dot in groups(holders)}
+    return (len(lots), mode, tuple([_table([laid[dot] for dot in table]) for table in tables]))
 
 
 def _laid(mode, dot, lots):

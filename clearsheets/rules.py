@@ -1,6 +1,6 @@
 """Rules: which groups are to see, and which are to learn nothing."""
 
-from clearsheets.errors import NotKept
+from clearsheets.errors import BadRule, NotKept
 from clearsheets.kinds import is_holders, is_row
 from clearsheets.lights import gains, told
 from clearsheets.quotients import fraction
@@ -43,6 +43,15 @@ def _barred_error(shows, hides):
         if group == () or is_covered(hides, group):
             return (number, "barred")
     return None
+
+
+def checked_rule(value):
+    """Return the value, which may be of any kind, if it is a rule; otherwise raise BadRule with what is wrong."""
+    error = rule_error(value)
+    if error is not None:
+        number, word = error
+        raise BadRule(number, word)
+    return value
 
 
 def blinded(rule):

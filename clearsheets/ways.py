@@ -46,14 +46,14 @@ def way_error(value):
 def _tables_error(holders, tables):
     """Return None if the items are tables alike in dots, otherwise the first fault."""
     for number, table in enumerate(tables):
-        if not _is_table(holders, table):
+        if not is_table(holders, table):
             return (number, "table")
         if len(table) != len(tables[0]):
             return (number, "dots")
     return None
 
 
-def _is_table(holders, value):
+def is_table(holders, value):
     """Return whether value is a table of these holders."""
     if not is_row(value, 1, MAX_DOTS):
         return False

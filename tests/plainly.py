@@ -186,3 +186,19 @@ def some_plan(chance, holders, tones):
         weights[chance.randrange(len(weights))] += 1
         found.append(tuple(pair(Fraction(weight, sum(weights))) for weight in weights))
     return tuple(found)
+
+
+def plain_exchanged(way, order):
+    """Return the way in which holder number i has the sheet of the holder order[i]."""
+    holders, mode, tables = way
+    return (holders, mode, tuple(tuple(sorted(tuple(at for at in range(holders) if order[at] in dot) for dot in table))
+                                 for table in tables))
+
+
+def is_plain_group(holders, value):
+    """Return whether value, of any kind, is one of all groups."""
+    return type(value) is tuple and all(type(item) is int for item in value) and value in all_groups(holders)
+
+
+def is_plain_tone(tones, value):
+    return type(value) is int and value in range(tones)

@@ -6,13 +6,16 @@ import unittest
 
 from clearsheets.asking import asks, both, left_out, reordered, slimmed
 from clearsheets.best import best, bound_of, evened, plan_contrast, prices, shares, way_by
+from clearsheets.books import book_error, flattened, guess, knows, looks
 from clearsheets.counted import fewest
 from clearsheets.drafts import slim, table_of, way_of
+from clearsheets.forms import equals, first_form, likeness
 from clearsheets.lights import blind, cut, gains, light, lights, shown, sighted, told, unlike_part
 from clearsheets.making import beside, exchanged, handed, merged, toned, without
 from clearsheets.rules import broken, contrast, keeps, of_size, opening, rule_error
 from clearsheets.ways import dots, groups, is_group, parts, way_error
-from tests.values import H, R, V, W, any_values
+from clearsheets.wishes import best_for, meets, ring, ring_holds, several, wishes_error
+from tests.values import B, H, R, T, V, W, any_values
 
 FUNCTIONS = {
     "ways": {
@@ -73,6 +76,26 @@ FUNCTIONS = {
         "merged": ["way", "lots"],
         "handed": ["outer", "holder", "inner"],
     },
+    "forms": {
+        "likeness": ["one", "other"],
+        "first_form": ["way"],
+        "equals": ["way"],
+    },
+    "wishes": {
+        "wishes_error": ["value"],
+        "meets": ["way", "wishes"],
+        "ring": ["wishes"],
+        "ring_holds": ["wishes", "value"],
+        "best_for": ["wishes"],
+        "several": ["holders", "mode", "seers", "hides"],
+    },
+    "books": {
+        "book_error": ["value"],
+        "looks": ["book", "tone", "group"],
+        "knows": ["book", "group"],
+        "guess": ["book", "group"],
+        "flattened": ["book"],
+    },
 }
 DEFAULTS = {"gains": {"one": 0, "other": 1}}
 CLASSES = {
@@ -120,7 +143,8 @@ class InterfaceTest(unittest.TestCase):
         found = [groups(holders) for holders in range(1, 6)] + [parts(group) for group in groups(5)]
         found += [dots(way) for way in (W, V, H)]
         for value in any_values():
-            found += [way_error(value), is_group(3, value), rule_error(value)]
+            found += [way_error(value), is_group(3, value), rule_error(value), wishes_error(value), ring_holds(T, value),
+                      book_error(value)]
         for way in (W, V, H):
             found += [light(way, 0, (0,)), lights(way, 0), gains(way), cut(way, 0, (0,)), told(way, (0,)),
                       shown(way, (0,)), unlike_part(way, 0, 1, (0, 1)), blind(way), sighted(way), slim(way),
@@ -132,6 +156,10 @@ class InterfaceTest(unittest.TestCase):
                   plan_contrast(R, "any", best(R, "any")[1]), evened(3, best(R, "any")[1]), shares(H),
                   way_by(3, "any", shares(H)), beside(W, V), exchanged(V, (1, 0)), toned(W, (0, 0)), without(H, 1),
                   merged(H, ((0, 1), ())), handed(W, 1, V)]
+        pictures = several(2, "any", (((0, 1), 0),), ((0,), (1,)))
+        found += [likeness(V, W), likeness(H, H), first_form(H), equals(V), ring(T), meets(W, (2, "any", 2, ())), best_for(T),
+                  pictures, best_for(pictures), ring(pictures), looks(B, 0, (0,)), knows(B, (0,)), guess(B, (0,)),
+                  flattened(B)]
         for result in found:
             self.assertTrue(is_returned_kind(result), result)
 

@@ -5,6 +5,8 @@ from clearsheets.errors import BadRule, ClearError, Full, NoGroup
 W = (2, "any", (((), (0, 1)), ((0,), (1,))))
 R = (3, ((0, 1), (0, 2)), ((0,), (1, 2)))
 V = (2, "any", (((0, 1), (0, 1)), ((0,), (0, 1))))
+B = (1, "any", (((1, ((),)), (1, ((0,),))), ((1, ((0,),)),)))
+T = (1, "any", 2, (("lighter", (0,), 0, 1), ("lighter", (0,), 1, 0)))
 H = (3, "any", (((), (0, 1), (0, 2), (1, 2)), ((0,), (0, 1, 2), (1,), (2,))))
 
 
@@ -25,7 +27,7 @@ def plain_values():
         (), (0,), (1, 0), ((),), ((), ()), (None,), (True,), ("any",), nested(12), (0,) * 2000,
         [], [0], [[]], [0, 1], [()], [2, "any", [[()], [()]]], [0] * 2000,
         {}, {0: 1}, {"any": ()}, {(): [], (0,): {}}, {0: 0, 1: 1, 2: 2},
-        W, R, V, H, list(W), W[2], W[2][0], (3, "any", 2, ()),
+        W, R, V, H, list(W), W[2], W[2][0], (3, "any", 2, ()), B, T, ((0,), (("lighter", 0, 1), ("lighter", 1, 0))),
         {"deep": [({"deeper": [(None, [True])]},)]},
     ]
 
@@ -35,3 +37,23 @@ def any_values():
     held = ClearError("held")
     objects = [held, BadRule(0, "group"), Full(), NoGroup((0,)), (held,), [held], {"held": held}]
     return plain_values() + objects
+
+
+THINGS = (None, True, False, 0, 1, 2, 3, 4, 5, 10, -1, 10 ** 59, "", "any", "odd", "alike", "lighter", "0", (), (0,), (1, 0),
+          (True,), ((),), (0, 1), [], [0], {}, {0: 1})
+
+
+def otherwise(value):
+    """Yield the value with one thing otherwise at any depth: exchanged, left out, twice, or in a list."""
+    yield from THINGS
+    if not isinstance(value, tuple):
+        return
+    yield list(value)
+    yield value + (None,)
+    for at, item in enumerate(value):
+        ahead, behind = value[:at], value[at + 1:]
+        yield ahead + behind
+        yield ahead + (item,) + value[at:]
+        yield behind + ahead + (item,)
+        for other in otherwise(item):
+            yield ahead + (other,) + behind
