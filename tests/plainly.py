@@ -202,3 +202,11 @@ def is_plain_group(holders, value):
 
 def is_plain_tone(tones, value):
     return type(value) is int and value in range(tones)
+
+
+def outcome(function, *arguments, **named):
+    """Return what the call returns, or the error that it raises by its name and fields."""
+    try:
+        return ("returned", function(*arguments, **named))
+    except (ValueError, LookupError) as error:
+        return ("raised", type(error).__name__, vars(error))

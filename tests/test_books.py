@@ -322,9 +322,12 @@ class FlattenedTest(unittest.TestCase):
         def lot(*weights, many):
             return tuple((weight, ((),) * many) for weight in weights)
 
-        for first, second, many, wanted in [((8,), (5,), 10, 400), ((9, 7), (9, 9, 7), 1, 400), ((9, 9, 7), (9, 1), 8, 400),
-                                            ((9, 8), (2,), 12, 408), ((9, 9, 9, 4), (9, 4), 1, 403), ((8,), (5,), 11, 440),
-                                            ((9, 9, 9, 9), (9, 9, 9, 9), 11, 396), ((9, 9, 9, 9), (9, 9, 9, 9), 12, 432),
+        for first, second, many, wanted in [((8,), (5,), 10, 400), ((9, 7), (9, 9, 7), 1, 400),
+                                            ((9, 9, 7), (9, 1), 8, 400),
+                                            ((9, 8), (2,), 12, 408), ((9, 9, 9, 4), (9, 4), 1, 403),
+                                            ((8,), (5,), 11, 440),
+                                            ((9, 9, 9, 9), (9, 9, 9, 9), 11, 396),
+                                            ((9, 9, 9, 9), (9, 9, 9, 9), 12, 432),
                                             ((9, 9, 9, 8), (9, 9, 9, 7), 12, 14280)]:
             for holders, mode in product(HOLDERS, MODES):
                 book = (holders, mode, (lot(*first, many=many), lot(*second, many=many)))
@@ -349,8 +352,9 @@ class FlattenedTest(unittest.TestCase):
                 way = flattened(book)
                 for tone, group in product(range(len(book[2])), all_groups(book[0])):
                     seen = cut(way, tone, group)
+                    chances = {dot: pair(Fraction(seen.count(dot), len(seen))) for dot in seen}
                     self.assertEqual(looks(book, tone, group),
-                                     tuple(((dot,), pair(Fraction(seen.count(dot), len(seen)))) for dot in sorted(set(seen))))
+                                     tuple(((dot,), chances[dot]) for dot in sorted(chances)))
 
     def test_by_name(self):
         self.assertEqual(flattened(book=B), (1, "any", (((), (0,)), ((0,), (0,)))))

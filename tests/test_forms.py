@@ -44,7 +44,8 @@ def even_ways():
     chance = random.Random(3)
     found = []
     for holders, blocks in [(2, [(0, 1)]), (3, [(0, 2), (1,)]), (3, [(0, 1, 2)]), (4, [(0, 1), (2, 3)]),
-                            (4, [(0, 3), (1,), (2,)]), (4, [(0, 1, 2, 3)]), (5, [(0, 2, 4), (1, 3)]), (5, [(1, 2), (0, 3), (4,)])]:
+                            (4, [(0, 3), (1,), (2,)]), (4, [(0, 1, 2, 3)]), (5, [(0, 2, 4), (1, 3)]),
+                            (5, [(1, 2), (0, 3), (4,)])]:
         found += [even_way(chance, holders, mode, tones, blocks) for mode in MODES for tones in TONES]
     return found
 

@@ -4,10 +4,13 @@ import importlib
 import inspect
 import unittest
 
+from clearsheets import bounds
 from clearsheets.asking import asks, both, left_out, reordered, slimmed
 from clearsheets.best import best, bound_of, evened, plan_contrast, prices, shares, way_by
 from clearsheets.books import book_error, flattened, guess, knows, looks
+from clearsheets.clerks import Clerk
 from clearsheets.counted import fewest
+from clearsheets.desks import Desk
 from clearsheets.drafts import slim, table_of, way_of
 from clearsheets.forms import equals, first_form, likeness
 from clearsheets.lights import blind, cut, gains, light, lights, shown, sighted, told, unlike_part
@@ -96,6 +99,20 @@ FUNCTIONS = {
         "guess": ["book", "group"],
         "flattened": ["book"],
     },
+    "pictures": {
+        "draw": ["way", "picture", "orders"],
+        "lay": ["way", "sheets", "group"],
+        "read": ["way", "group", "seen"],
+        "drawings": ["way", "picture", "group", "seen"],
+        "suspects": ["way", "group", "seen"],
+    },
+    "texts": {
+        "group_text": ["group"],
+        "rule_text": ["rule"],
+        "way_text": ["way"],
+        "read_rule": ["value"],
+        "read_way": ["value"],
+    },
 }
 DEFAULTS = {"gains": {"one": 0, "other": 1}}
 CLASSES = {
@@ -108,7 +125,35 @@ CLASSES = {
         "TooMany": ["limit"],
         "NoGroup": ["group"],
     },
+    "desks": {
+        "Desk": ["rule", "mode"],
+    },
+    "clerks": {
+        "Clerk": ["desk"],
+    },
 }
+METHODS = {
+    Desk: {
+        "contrast": [],
+        "way": [],
+        "show": ["group"],
+        "unshow": ["group"],
+        "hide": ["group"],
+        "unhide": ["group"],
+        "turn": ["mode"],
+        "undo": [],
+        "tried": ["function"],
+        "__len__": [],
+        "__eq__": ["other"],
+        "__str__": [],
+    },
+    Clerk: {
+        "say": ["line"],
+    },
+}
+PROPERTIES = {Desk: ["rule", "mode", "version", "changed"], Clerk: ["history"]}
+BOUNDS = {"MAX_COUNTED": 3, "MAX_DOTS": 400, "MAX_DRAWN": 8, "MAX_EDITS": 20, "MAX_HOLDERS": 5, "MAX_LOOKS": 12,
+          "MAX_SOLVED": 4, "MAX_TONES": 4}
 
 
 def is_returned_kind(value):
@@ -139,11 +184,30 @@ class InterfaceTest(unittest.TestCase):
     def test_classes(self):
         self.check(CLASSES)
 
+    def test_methods_are_defined_in_the_class_itself(self):
+        for kind, names in METHODS.items():
+            for name, arguments in names.items():
+                with self.subTest(kind=kind.__name__, name=name):
+                    item = vars(kind)[name]
+                    self.assertEqual(item.__qualname__, f"{kind.__name__}.{name}")
+                    self.assertEqual(list(inspect.signature(item).parameters)[1:], arguments)
+
+    def test_properties_are_defined_in_the_class_itself(self):
+        for kind, names in PROPERTIES.items():
+            for name in names:
+                self.assertIsInstance(vars(kind)[name], property)
+                self.assertIsNone(vars(kind)[name].fset)
+
+    def test_bounds(self):
+        for name, bound in BOUNDS.items():
+            self.assertEqual(repr(getattr(bounds, name)), repr(bound))
+
     def test_results_are_made_of_the_kinds_told(self):
         found = [groups(holders) for holders in range(1, 6)] + [parts(group) for group in groups(5)]
         found += [dots(way) for way in (W, V, H)]
         for value in any_values():
-            found += [way_error(value), is_group(3, value), rule_error(value), wishes_error(value), ring_holds(T, value),
+            found += [way_error(value), is_group(3, value), rule_error(value), wishes_error(value),
+                      ring_holds(T, value),
                       book_error(value)]
         for way in (W, V, H):
             found += [light(way, 0, (0,)), lights(way, 0), gains(way), cut(way, 0, (0,)), told(way, (0,)),
@@ -157,7 +221,8 @@ class InterfaceTest(unittest.TestCase):
                   way_by(3, "any", shares(H)), beside(W, V), exchanged(V, (1, 0)), toned(W, (0, 0)), without(H, 1),
                   merged(H, ((0, 1), ())), handed(W, 1, V)]
         pictures = several(2, "any", (((0, 1), 0),), ((0,), (1,)))
-        found += [likeness(V, W), likeness(H, H), first_form(H), equals(V), ring(T), meets(W, (2, "any", 2, ())), best_for(T),
+        found += [likeness(V, W), likeness(H, H), first_form(H), equals(V), ring(T), meets(W, (2, "any", 2, ())),
+                  best_for(T),
                   pictures, best_for(pictures), ring(pictures), looks(B, 0, (0,)), knows(B, (0,)), guess(B, (0,)),
                   flattened(B)]
         for result in found:

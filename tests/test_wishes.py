@@ -246,7 +246,8 @@ class WishesErrorTest(unittest.TestCase):
             self.check(value, plain_wishes_error(value))
             self.check((2, "any", 2, value), plain_wishes_error((2, "any", 2, value)))
             self.check((2, "any", 2, (value,)), (0, "want"))
-            for want in [(value, (0,), 0, 1), ("alike", value, 0, 1), ("lighter", (0,), value, 1), ("alike", (0,), 0, value)]:
+            for want in [(value, (0,), 0, 1), ("alike", value, 0, 1), ("lighter", (0,), value, 1),
+                         ("alike", (0,), 0, value)]:
                 self.check((2, "any", 2, (want,)), plain_wishes_error((2, "any", 2, (want,))))
 
     def test_wrong_holders(self):
@@ -479,14 +480,16 @@ class RingHoldsTest(unittest.TestCase):
             for wishes in (T, WISHES[-1]):
                 self.assertIs(ring_holds(wishes, value), is_plain_ring(wishes, value))
                 for other in [(value, (("lighter", 1, 0), ("lighter", 0, 1))), ((0,), value), ((0,), (value, value)),
-                              ((0,), (("lighter", 1, 0), (value, 0, 1))), ((0,), (("lighter", 1, 0), ("lighter", value, 1)))]:
+                              ((0,), (("lighter", 1, 0), (value, 0, 1))),
+                              ((0,), (("lighter", 1, 0), ("lighter", value, 1)))]:
                     self.assertIs(ring_holds(wishes, other), is_plain_ring(wishes, other))
 
     def test_lists_and_bools(self):
         one, other = ("lighter", 1, 0), ("lighter", 0, 1)
         self.assertIs(ring_holds(T, ((0,), (one, other))), True)
         for value in [[(0,), (one, other)], ([0], (one, other)), ((0,), [one, other]), ((0,), (list(one), other)),
-                      ((False,), (one, other)), ((0,), (("lighter", True, 0), other)), ((0,), (one, ("lighter", False, 1)))]:
+                      ((False,), (one, other)), ((0,), (("lighter", True, 0), other)),
+                      ((0,), (one, ("lighter", False, 1)))]:
             self.assertIs(ring_holds(T, value), False)
 
     def test_by_names(self):

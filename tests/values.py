@@ -1,5 +1,7 @@
 """Values that several tests use: the document's examples and values of all kinds."""
 
+from clearsheets.clerks import Clerk
+from clearsheets.desks import Desk
 from clearsheets.errors import BadRule, ClearError, Full, NoGroup
 
 W = (2, "any", (((), (0, 1)), ((0,), (1,))))
@@ -35,12 +37,14 @@ def plain_values():
 def any_values():
     """Return new values of all kinds, objects of the package among them."""
     held = ClearError("held")
-    objects = [held, BadRule(0, "group"), Full(), NoGroup((0,)), (held,), [held], {"held": held}]
+    desk = Desk(R, "any")
+    objects = [held, BadRule(0, "group"), Full(), NoGroup((0,)), (held,), [held], {"held": held},
+               desk, Clerk(desk), (desk,), [desk], (desk, "any"), {"desk": desk}]
     return plain_values() + objects
 
 
-THINGS = (None, True, False, 0, 1, 2, 3, 4, 5, 10, -1, 10 ** 59, "", "any", "odd", "alike", "lighter", "0", (), (0,), (1, 0),
-          (True,), ((),), (0, 1), [], [0], {}, {0: 1})
+THINGS = (None, True, False, 0, 1, 2, 3, 4, 5, 10, -1, 10 ** 59, "", "any", "odd", "alike", "lighter", "0", (), (0,),
+          (1, 0), (True,), ((),), (0, 1), [], [0], {}, {0: 1})
 
 
 def otherwise(value):
